@@ -1,0 +1,1 @@
+"""Editions: a dictionary that grows by acts, and is frozen, printed and compared."""
