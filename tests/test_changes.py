@@ -199,15 +199,13 @@ def some_act(source):
 
 def done_to(model, call, answer):
     """What an accepted act does, told as a change."""
-    text = bytes(call[5 if call[0] == 8 else 4 if call[0] == 1 else 3:]).decode()
-    if call[0] == 0:
-        model.apply((3, answer[2], call[1], 0, text))
-    elif call[0] == 1:
-        model.apply((5, answer[2], call[1], call[2], text))
-    else:
-        kind = {2: 7, 3: 8, 4: 6, 5: 4, 6: 2, 7: 1}[call[0]]
-        given = call[1:2] if call[0] == 2 else call[1:]
-        model.apply((kind,) + tuple(given + [0, 0])[:3] + (text if call[0] == 2 else "",))
+    kind = {0: 3, 1: 5, 2: 7, 3: 8, 4: 6, 5: 4, 6: 2, 7: 1}[call[0]]
+    # How many of the numbers behind the call's own are none of its row.
+    count = {0: 1, 1: 2, 2: 1, 3: 2, 4: 3, 5: 2, 6: 1, 7: 1}[call[0]]
+    given = call[1:1 + count]
+    text = bytes(call[2 + count:]).decode("ascii")
+    made = [answer[2]] if call[0] in (0, 1) else []
+    model.apply((kind, *(made + given + [0, 0])[:3], text))
 
 
 class RandomTest(Case):
