@@ -16,7 +16,7 @@ def answer_of(house, call):
         return [NOT_AS_TOLD]
     if is_act(call[0]):
         return act(house, call[0], numbers_of(call), row_of(call))
-    return tell(house, call[0], numbers_of(call))
+    return tell(house, call[0], numbers_of(call), row_of(call))
 
 
 def answers(calls):

@@ -1,15 +1,14 @@
 """The changes that lead from one book to another one."""
 
+from frozeneditions.kinds import ENTRY_DROPPED
+from frozeneditions.kinds import ENTRY_MOVED
+from frozeneditions.kinds import ENTRY_NEW
+from frozeneditions.kinds import POINTED
+from frozeneditions.kinds import SAID
+from frozeneditions.kinds import SENSE_DROPPED
+from frozeneditions.kinds import SENSE_MOVED
+from frozeneditions.kinds import SENSE_NEW
 from frozeneditions.rows import those_that_stay
-
-ENTRY_DROPPED = 1
-SENSE_DROPPED = 2
-ENTRY_NEW = 3
-ENTRY_MOVED = 4
-SENSE_NEW = 5
-SENSE_MOVED = 6
-SAID = 7
-POINTED = 8
 
 
 def change(kind, numbers, row):

@@ -1,4 +1,4 @@
-"""The form of each call: the ranges of its numbers, and the lengths and numbers of its row."""
+"""The forms of words, texts and prints, and of each call: the ranges of its numbers, and its row."""
 
 # By the call's number: the least and the greatest of each of its numbers.
 RANGES = (
@@ -15,14 +15,52 @@ RANGES = (
     ((0, 10),),  # print: book
     ((1, 10),),  # corrected: edition
     ((0, 10), (0, 10)),  # changes: first, second
+    ((0, 10),),  # patch: book
+    ((0, 10), (1, 50)),  # number: book, sense
+    ((0, 10), (1, 20), (1, 50)),  # name: book, entry_place, sense_place
+    ((0, 10), (1, 20), (1, 50), (0, 10)),  # carry: book, entry_place, sense_place, other
+    ((0, 10),),  # pointers: book
+    ((0, 10),),  # dead: book
+    ((0, 10), (1, 50)),  # blame: book, sense
+    (),  # check
+    ((1, 10),),  # errata: edition
+    ((1, 200),),  # line: number
+    ((0, 10),),  # size: book
+    (),  # state
 )
 
-# Of the calls with a row: its least and greatest length, the least and the greatest number in it.
+
+def is_row(row, shortest, longest, least, greatest):
+    if not shortest <= len(row) <= longest:
+        return False
+    return all([least <= number <= greatest for number in row])
+
+
+def is_word(row):
+    return is_row(row, 1, 12, 97, 122)
+
+
+def is_text(row):
+    return is_row(row, 0, 30, 32, 126)
+
+
+def is_print(row):
+    return is_row(row, 0, 3000, 0, 255)
+
+
+def may_be_changes(row):
+    """Of its length alone: numbers that are no changes are a refusal of their own."""
+    return len(row) <= 3000
+
+
+# By the call's number, of the calls with a row: what the row must be.
 ROWS = {
-    0: (1, 12, 97, 122),  # entry: word
-    1: (0, 30, 32, 126),  # sense: text
-    2: (0, 30, 32, 126),  # say: text
-    8: (0, 30, 32, 126),  # erratum: text
+    0: is_word,  # entry
+    1: is_text,  # sense
+    2: is_text,  # say
+    8: is_text,  # erratum
+    13: may_be_changes,  # patch
+    20: is_print,  # check
 }
 
 
@@ -54,11 +92,7 @@ def numbers_are_told(call):
 def row_is_told(call):
     if call[0] not in ROWS:
         return True
-    form = ROWS[call[0]]
-    row = row_of(call)
-    if not form[0] <= len(row) <= form[1]:
-        return False
-    return all([form[2] <= number <= form[3] for number in row])
+    return ROWS[call[0]](row_of(call))
 
 
 def is_as_told(call):

@@ -1,13 +1,7 @@
 """A book printed: lines of bytes, with numbers in the place of names."""
 
-
-def sense_numbers(book):
-    """For each sense that is there: its entry's place, its place in that entry."""
-    numbers = {}
-    for entry_place, entry in enumerate(book.order, start=1):
-        for sense_place, sense in enumerate(book.rows[entry], start=1):
-            numbers[sense] = (entry_place, sense_place)
-    return numbers
+from frozeneditions.numbering import number_among
+from frozeneditions.numbering import sense_numbers
 
 
 def bytes_of(text):
@@ -20,19 +14,29 @@ def dotted(number):
     return f"{entry_place}.{sense_place}"
 
 
+def entry_head(place):
+    """What an entry's line begins with, ahead of its word."""
+    return bytes_of(f"{place} ")
+
+
+def sense_head(number):
+    """What a sense's line begins with, ahead of what it points to."""
+    place = dotted(number)
+    return bytes_of(f"{place} ")
+
+
 def entry_line(place, word):
-    return bytes_of(f"{place} ") + word + [10]
+    return entry_head(place) + word + [10]
 
 
 def sense_line(number, pointed, text):
-    ahead = dotted(number)
-    return bytes_of(f"{ahead} {pointed} ") + text + [10]
+    return sense_head(number) + bytes_of(f"{pointed} ") + text + [10]
 
 
 def pointed_as(target, numbers):
     if target == 0:
         return "-"
-    return dotted(numbers.get(target, (0, 0)))
+    return dotted(number_among(numbers, target))
 
 
 def printed(book):

@@ -1,5 +1,6 @@
-"""What the tests share: calls as lists of numbers, answers call by call, and changes applied by hand."""
+"""What the tests share: calls as lists of numbers, answers call by call, and a book that is kept by hand."""
 
+import random
 import unittest
 
 from frozeneditions.book import answers
@@ -65,6 +66,54 @@ def changes(first, second):
     return [12, first, second]
 
 
+def patch(book, row):
+    return with_row([13, book], row)
+
+
+def number(book, name):
+    return [14, book, name]
+
+
+def name_at(book, entry_place, sense_place):
+    return [15, book, entry_place, sense_place]
+
+
+def carry(book, entry_place, sense_place, other):
+    return [16, book, entry_place, sense_place, other]
+
+
+def pointers(book):
+    return [17, book]
+
+
+def dead(book):
+    return [18, book]
+
+
+def blame(book, name):
+    return [19, book, name]
+
+
+def check(row):
+    return with_row([20], row)
+
+
+def errata(edition):
+    return [21, edition]
+
+
+def line(place):
+    return [22, place]
+
+
+def size(book):
+    return [23, book]
+
+
+def state():
+    return [24]
+
+
 def split(told):
     """The answers one by one, each without its count."""
     found = []
@@ -76,6 +125,9 @@ def split(told):
 
 
 def run(*calls):
+    # No more is handed in than may be.
+    assert len(calls) <= 250 and sum(call[0] == 13 for call in calls) <= 20, len(calls)
+    assert sum(len(call) for call in calls) <= 17000
     return split(answers([number for call in calls for number in call]))
 
 
@@ -103,26 +155,34 @@ def told_changes(answer):
     return found
 
 
+def as_numbers(*told):
+    """Changes, each as its kind, its three numbers and its bytes as a text, as one row of numbers."""
+    return [one for kind, *three, text in told for one in [kind, *three] + [len(numbers(text))] + numbers(text)]
+
+
 # 200 lines of the log: one entry, two senses in it, and sayings.
 FULL_LOG = [entry(0), sense(1, 0), sense(1, 1)] + [say(1, "x")] * 197
 
 
 def probes():
     """Calls whose answers show all that a call could have changed."""
-    shown = [print_book(0), freeze()]
+    shown = [state(), print_book(0), pointers(0), freeze(), state(), line(1), line(2), blame(0, 1)]
     for edition in range(1, 4):
-        shown += [print_book(edition), corrected(edition), changes(edition, 0), changes(0, edition)]
-    return shown + [entry(0, "probe"), sense(1, 0, "probe"), print_book(0)]
+        shown += [print_book(edition), corrected(edition), errata(edition), changes(edition, 0), changes(0, edition)]
+    return shown + [entry(0, "probe"), sense(1, 0, "probe"), print_book(0), state()]
 
 
 class Case(unittest.TestCase):
-    def assert_refused(self, refusal, setup, call):
-        """The call is refused so, behind the calls of setup, and nothing has changed."""
+    def assert_only_told(self, wanted, setup, call):
+        """The call is answered so, behind the calls of setup, and nothing has changed."""
         setup = list(setup)
         without = run(*setup, *probes())
         told = run(*setup, call, *probes())
-        self.assertEqual(told[len(setup)], [refusal])
+        self.assertEqual(told[len(setup)], wanted)
         self.assertEqual(told[:len(setup)] + told[len(setup) + 1:], without)
+
+    def assert_refused(self, refusal, setup, call):
+        self.assert_only_told([refusal], setup, call)
 
     def assert_accepted(self, setup, call):
         self.assertEqual(last(*setup, call)[0], 0)
@@ -200,3 +260,45 @@ class Model:
                 pointed = self.number(target) if target else "-"
                 lines.append(f"{place}.{inner} {pointed} {text}\n")
         return "".join(lines)
+
+
+def some_act(source):
+    """One act with numbers that are often there; not all are accepted."""
+    name = source.randint(1, 12)
+    other = source.randint(0, 12)
+    home = source.randint(1, 6)
+    text = "".join(source.choices("xyz ", k=source.randint(0, 3)))
+    return source.choice([
+        entry(source.randint(0, 6), source.choice(["ant", "bee"])), sense(home, other, text), sense(home, 0, text),
+        say(name, text), point(name, other), movesense(name, home, other), movesense(name, home, 0),
+        moveentry(home, source.randint(0, 6)), dropsense(name) if source.random() < 0.5 else say(name, text),
+        dropentry(home) if source.random() < 0.5 else moveentry(home, 0)])
+
+
+def done_to(model, call, answer):
+    """What an accepted act does, told as a change."""
+    kind = {0: 3, 1: 5, 2: 7, 3: 8, 4: 6, 5: 4, 6: 2, 7: 1}[call[0]]
+    # How many of the numbers behind the call's own are none of its row.
+    count = {0: 1, 1: 2, 2: 1, 3: 2, 4: 3, 5: 2, 6: 1, 7: 1}[call[0]]
+    given = call[1:1 + count]
+    text = bytes(call[2 + count:]).decode("ascii")
+    made = [answer[2]] if call[0] in (0, 1) else []
+    model.apply((kind, *(made + given + [0, 0])[:3], text))
+
+
+def history(seed):
+    """A row of acts with four freezes among them, the same in every run; by hand, the book now and each edition."""
+    source = random.Random(seed)
+    acts = [some_act(source) for _ in range(source.randint(5, 120))]
+    freezes = sorted(source.randrange(len(acts)) for _ in range(4))
+    calls = []
+    for place, act in enumerate(acts):
+        calls += [freeze()] * freezes.count(place) + [act]
+    model = Model()
+    models = []
+    for call, answer in zip(calls, run(*calls)):
+        if call == freeze():
+            models.append(model.copy())
+        elif answer[0] == 0:
+            done_to(model, call, answer)
+    return calls, [model] + models

@@ -4,7 +4,7 @@ import itertools
 import random
 
 from frozeneditions.rows import those_that_stay
-from tests.helper import (Case, Model, changes, dropentry, dropsense, entry, erratum, freeze, last, moveentry,
+from tests.helper import (Case, changes, dropentry, dropsense, entry, erratum, freeze, history, last, moveentry,
                           movesense, point, print_book, run, say, sense, told_changes)
 
 SMALL = [entry(0, "ant"), entry(1, "bee"), sense(1, 0, "one"), sense(1, 1, "two"), sense(2, 0, "three")]
@@ -24,13 +24,14 @@ class Told(Case):
 class EachKindTest(Told):
     def test_books_that_are_the_same(self):
         self.assertEqual(last(changes(0, 0)), [0, 0])
-        self.assertEqual(run(*SMALL, freeze(), freeze(), changes(0, 0), changes(1, 2), changes(2, 2), changes(0, 1))[-4:],
-                         [[0, 0]] * 4)
+        asked = [changes(0, 0), changes(1, 2), changes(2, 2), changes(0, 1)]
+        self.assertEqual(run(*SMALL, freeze(), freeze(), *asked)[-4:], [[0, 0]] * 4)
         self.assert_changes(SMALL, [moveentry(2, 0), moveentry(1, 0), say(1, "x"), say(1, "one")], [])
         self.assert_changes(SMALL, [freeze(), erratum(1, 1, "mended")], [])
 
     def test_all_numbers_of_an_answer(self):
-        told = last(entry(0, "ab"), sense(1, 0, "xyz"), freeze(), entry(1, "cd"), say(1, ""), point(1, 1), changes(1, 0))
+        calls = [entry(0, "ab"), sense(1, 0, "xyz"), freeze(), entry(1, "cd"), say(1, ""), point(1, 1)]
+        told = last(*calls, changes(1, 0))
         self.assertEqual(told, [0, 3, 3, 2, 1, 0, 2, 99, 100, 7, 1, 0, 0, 0, 8, 1, 1, 0, 0])
 
     def test_entry_dropped(self):
@@ -184,48 +185,11 @@ class StayTest(Told):
             self.assertEqual([change[0] for change in told], [4] * (5 - len(earliest_longest([1, 2, 3, 4, 5], wanted))))
 
 
-def some_act(source):
-    """One act with numbers that are often there; not all are accepted."""
-    name = source.randint(1, 12)
-    other = source.randint(0, 12)
-    home = source.randint(1, 6)
-    text = "".join(source.choices("xyz ", k=source.randint(0, 3)))
-    return source.choice([
-        entry(source.randint(0, 6), source.choice(["ant", "bee"])), sense(home, other, text), sense(home, 0, text),
-        say(name, text), point(name, other), movesense(name, home, other), movesense(name, home, 0),
-        moveentry(home, source.randint(0, 6)), dropsense(name) if source.random() < 0.5 else say(name, text),
-        dropentry(home) if source.random() < 0.5 else moveentry(home, 0)])
-
-
-def done_to(model, call, answer):
-    """What an accepted act does, told as a change."""
-    kind = {0: 3, 1: 5, 2: 7, 3: 8, 4: 6, 5: 4, 6: 2, 7: 1}[call[0]]
-    # How many of the numbers behind the call's own are none of its row.
-    count = {0: 1, 1: 2, 2: 1, 3: 2, 4: 3, 5: 2, 6: 1, 7: 1}[call[0]]
-    given = call[1:1 + count]
-    text = bytes(call[2 + count:]).decode("ascii")
-    made = [answer[2]] if call[0] in (0, 1) else []
-    model.apply((kind, *(made + given + [0, 0])[:3], text))
-
-
 class RandomTest(Case):
     """Rows of acts, the same in every run, beside a book that is kept by hand."""
 
     def one_round(self, seed):
-        source = random.Random(seed)
-        acts = [some_act(source) for _ in range(source.randint(5, 120))]
-        freezes = sorted(source.randrange(len(acts)) for _ in range(4))
-        calls = []
-        for place, act in enumerate(acts):
-            calls += [freeze()] * freezes.count(place) + [act]
-        model = Model()
-        models = []
-        for call, answer in zip(calls, run(*calls)):
-            if call == freeze():
-                models.append(model.copy())
-            elif answer[0] == 0:
-                done_to(model, call, answer)
-        models.insert(0, model)
+        calls, models = history(seed)
         pairs = list(itertools.product(range(5), repeat=2))
         told = run(*calls, *[print_book(book) for book in range(5)], *[changes(*pair) for pair in pairs])[len(calls):]
         for book in range(5):

@@ -91,6 +91,15 @@ class LanguageTest(unittest.TestCase):
                                 if isinstance(one, ast.Assign)}
                     self.assertLessEqual({name.name for name in node.names}, defined, path)
 
+    def test_no_two_files_draw_from_one_another(self):
+        drawn = {f"{PACKAGE.name}.{path.stem}": {node.module for node in tree.body if isinstance(node, ast.ImportFrom)}
+                 for path, tree in trees()}
+        while drawn:
+            # Take away those that draw from none of the others, until none is left.
+            free = [name for name, sources in drawn.items() if not sources & set(drawn)]
+            self.assertNotEqual(free, [], drawn)
+            drawn = {name: sources for name, sources in drawn.items() if name not in free}
+
     def test_names(self):
         for path, tree in trees():
             imported = {name.name for node in tree.body if isinstance(node, ast.ImportFrom) for name in node.names}

@@ -1,7 +1,8 @@
-"""-1: each number and each row of the calls 0 to 12, just in and just out of what is told."""
+"""-1: each number and each row of a call, just in and just out of what is told."""
 
-from tests.helper import (Case, changes, corrected, dropentry, dropsense, entry, erratum, freeze, last, moveentry,
-                          movesense, point, print_book, printed, run, say, sense)
+from tests.helper import (FULL_LOG, Case, as_numbers, blame, carry, changes, check, corrected, dead, dropentry,
+                          dropsense, entry, errata, erratum, freeze, last, line, moveentry, movesense, name_at, number,
+                          patch, point, pointers, print_book, printed, run, say, sense, size)
 
 # 20 entries, 50 senses in the last of them, 10 editions: whatever a number in its range names is there.
 ENTRIES = [entry(name, "w") for name in range(20)]
@@ -36,8 +37,36 @@ NUMBERS = [
     ("corrected edition", lambda n: corrected(n), EDITION),
     ("changes first", lambda n: changes(n, 0), BOOK),
     ("changes second", lambda n: changes(0, n), BOOK),
+    ("patch book", lambda n: patch(n, []), BOOK),
+    ("number book", lambda n: number(n, 1), BOOK),
+    ("number sense", lambda n: number(0, n), SENSE),
+    ("name book", lambda n: name_at(n, 1, 1), BOOK),
+    ("name entry_place", lambda n: name_at(0, n, 1), (1, 20)),
+    ("name sense_place", lambda n: name_at(0, 20, n), (1, 50)),
+    ("carry book", lambda n: carry(n, 20, 1, 0), BOOK),
+    ("carry entry_place", lambda n: carry(0, n, 1, 0), (1, 20)),
+    ("carry sense_place", lambda n: carry(0, 20, n, 0), (1, 50)),
+    ("carry other", lambda n: carry(0, 20, 1, n), BOOK),
+    ("pointers book", lambda n: pointers(n), BOOK),
+    ("dead book", lambda n: dead(n), BOOK),
+    ("blame book", lambda n: blame(n, 1), BOOK),
+    ("blame sense", lambda n: blame(0, n), SENSE),
+    ("errata edition", lambda n: errata(n), EDITION),
+    ("line number", lambda n: line(n), (1, 200)),
+    ("size book", lambda n: size(n), BOOK),
 ]
-MAKERS = ("entry behind", "sense entry", "sense behind")
+
+# In range, but refused otherwise: all entries and senses are made; entry 1 has no senses; the log has 70 lines.
+REFUSED_IN_RANGE = {
+    ("entry behind", 0): -4,
+    ("entry behind", 20): -4,
+    ("sense entry", 1): -4,
+    ("sense entry", 20): -4,
+    ("sense behind", 0): -4,
+    ("sense behind", 50): -4,
+    ("carry entry_place", 1): -6,
+    ("line number", 200): -5,
+}
 
 TEXTS = [
     ("sense", lambda text: sense(1, 0, text), [entry(0)]),
@@ -49,17 +78,16 @@ TEXTS = [
 class NumberTest(Case):
     def test_just_in(self):
         for title, call, bounds in NUMBERS:
-            for number in bounds:
-                with self.subTest(title, number=number):
-                    # All entries and senses are made, so a call that makes one gets as far as -4.
-                    wanted = -4 if title in MAKERS else 0
-                    self.assertEqual(last(*WHOLE, call(number))[0], wanted)
+            for edge in bounds:
+                with self.subTest(title, edge=edge):
+                    wanted = REFUSED_IN_RANGE.get((title, edge), 0)
+                    self.assertEqual(last(*WHOLE, call(edge))[0], wanted)
 
     def test_just_out_and_far_out(self):
         for title, call, bounds in NUMBERS:
-            for number in (bounds[0] - 1, bounds[1] + 1, -FAR, FAR):
-                with self.subTest(title, number=number):
-                    self.assert_refused(-1, WHOLE, call(number))
+            for beyond in (bounds[0] - 1, bounds[1] + 1, -FAR, FAR):
+                with self.subTest(title, beyond=beyond):
+                    self.assert_refused(-1, WHOLE, call(beyond))
 
     def test_out_of_range_goes_ahead_of_what_is_not_there(self):
         for title, call, bounds in NUMBERS:
@@ -69,8 +97,16 @@ class NumberTest(Case):
 
     def test_out_of_range_behind_a_number_that_is_refused_otherwise(self):
         for call in (sense(7, 51), point(7, 51), movesense(7, 21, 0), movesense(7, 7, 51), movesense(7, 7, -1),
-                     moveentry(7, 21), erratum(7, 51), changes(7, 11), changes(7, -1)):
+                     moveentry(7, 21), erratum(7, 51), changes(7, 11), changes(7, -1), number(7, 51), number(7, 0),
+                     name_at(7, 21, 1), name_at(7, 0, 1), name_at(7, 1, 51), name_at(7, 1, 0), carry(7, 21, 1, 0),
+                     carry(7, 1, 51, 0), carry(7, 1, 1, 11), carry(0, 1, 1, 11), carry(7, 1, 1, -1), blame(7, 51),
+                     blame(7, 0)):
             self.assert_refused(-1, [], call)
+
+    def test_lines_of_a_full_log(self):
+        self.assertEqual(last(*FULL_LOG, line(200)), [0, 2, 1, 0, 0, 1, 120])
+        self.assertEqual(last(*FULL_LOG, line(201)), [-1])
+        self.assertEqual(last(*FULL_LOG, line(0)), [-1])
 
 
 class WordTest(Case):
@@ -120,3 +156,61 @@ class TextTest(Case):
     def test_a_wrong_text_goes_ahead_of_what_is_not_there(self):
         for call in (sense(1, 1, [31]), say(1, [127]), erratum(1, 1, "x" * 31)):
             self.assert_refused(-1, [], call)
+
+
+class ChangesRowTest(Case):
+    def test_lengths(self):
+        self.assertEqual(last(patch(0, [])), [0, 0])
+        # 600 changes of five numbers, then one number more.
+        row = as_numbers((8, 1, 0, 0, "")) * 600
+        setup = [entry(0), sense(1, 0, "x")]
+        self.assertEqual(last(*setup, patch(0, row)), [0, 0] + list(b"1 a\n1.1 - x\n"))
+        self.assert_refused(-1, setup, patch(0, row + [0]))
+        self.assert_refused(-1, setup, patch(0, [8] * 3500))
+
+    def test_3000_numbers_that_are_no_changes(self):
+        self.assert_refused(-3, [], patch(0, [8] * 3000))
+        self.assert_refused(-1, [], patch(0, [8] * 3001))
+
+    def test_any_number_may_stand_in_it(self):
+        for one in (-FAR, -1, 101, FAR):
+            self.assert_refused(-3, [], patch(0, [one]))
+
+    def test_too_many_numbers_go_ahead_of_a_book_that_is_not_there(self):
+        self.assert_refused(-1, [], patch(1, [0] * 3001))
+        self.assert_refused(-8, [], patch(1, [0] * 3000))
+
+    def test_a_wrong_book_goes_ahead_of_no_changes(self):
+        self.assert_refused(-1, [], patch(11, [0]))
+        self.assert_refused(-1, [], patch(-1, [0]))
+
+
+class PrintRowTest(Case):
+    def test_lengths(self):
+        self.assertEqual(last(check([])), [0, 0, 0, 0])
+        self.assertEqual(last(check([10] * 3000)), [0, 1, 1])
+        self.assert_refused(-1, [], check([10] * 3001))
+        self.assert_refused(-1, [], check([10] * 3500))
+
+    def test_3000_bytes_that_are_right(self):
+        lines = b"1 a\n"
+        place = 1
+        while len(lines) < 2970:
+            lines += b"1.%d - " % place + b"x" * 28 + b"\n"
+            place += 1
+        lines += b"1.%d - " % place + b"y" * (2992 - len(lines)) + b"\n"
+        self.assertEqual(len(lines), 3000)
+        self.assertEqual(last(check(lines)), [0, 0, 1, place])
+        self.assertEqual(last(check(lines + b"z")), [-1])
+
+    def test_bytes(self):
+        for byte in (0, 255):
+            self.assertEqual(last(check([byte])), [0, 1, 1])
+            self.assertEqual(last(check([49, 32, 97, 10, byte, 10])), [0, 1, 2])
+        for byte in (-1, 256, 256 + 10, FAR, -FAR):
+            self.assert_refused(-1, [], check([byte]))
+            self.assert_refused(-1, [], check([49, 32, 97, byte]))
+            self.assert_refused(-1, [], check([byte] + [10] * 2999))
+
+    def test_a_byte_that_is_none_goes_ahead_of_a_wrong_line(self):
+        self.assert_refused(-1, [], check([10, 256]))

@@ -1,7 +1,8 @@
-"""-4 to -8: each refusal told with a call, and which goes first where several are due."""
+"""-3 to -8: each refusal told with a call, and which goes first where several are due."""
 
-from tests.helper import (FULL_LOG, Case, changes, corrected, dropentry, dropsense, entry, erratum, freeze, last,
-                          moveentry, movesense, point, print_book, run, say, sense)
+from tests.helper import (FULL_LOG, Case, blame, carry, changes, check, corrected, dead, dropentry, dropsense, entry,
+                          errata, erratum, freeze, last, line, moveentry, movesense, name_at, number, patch, point,
+                          pointers, print_book, run, say, sense, size, state)
 
 # Entries 1 and 2, senses 1 and 2 in entry 1 and 3 in entry 2; entry 3 and sense 4 are gone.
 SMALL = [entry(0), entry(1), entry(2), sense(1, 0, "one"), sense(1, 1, "two"), sense(2, 0, "three"),
@@ -79,6 +80,41 @@ class EachRefusalTest(Case):
         for call in (print_book(1), corrected(1), changes(1, 1)):
             self.assert_refused(-8, [], call)
 
+    def test_each_call_that_is_told_a_book(self):
+        for call in (lambda n: patch(n, []), lambda n: number(n, 1), lambda n: name_at(n, 1, 1),
+                     lambda n: carry(n, 1, 1, 0), lambda n: carry(0, 1, 1, n), lambda n: carry(n, 1, 1, n), pointers,
+                     dead, lambda n: blame(n, 1), errata, size):
+            for book in (2, 10):
+                self.assert_refused(-8, SMALL, call(book))
+                self.assert_refused(-8, [], call(book))
+            self.assert_refused(-8, [], call(1))
+            self.assert_accepted(SMALL, call(1))
+
+    def test_patch(self):
+        self.assert_refused(-3, SMALL, patch(0, [0]))
+        self.assert_refused(-3, SMALL, patch(1, [0]))
+
+    def test_carry(self):
+        # Entry 1 has two senses, entry 2 one; entry 3 has one in the edition and is gone now.
+        for call in (carry(0, 1, 3, 1), carry(0, 2, 2, 1), carry(0, 3, 1, 1), carry(1, 3, 2, 0), carry(1, 4, 1, 0),
+                     carry(0, 20, 50, 0)):
+            self.assert_refused(-6, SMALL, call)
+        self.assert_accepted(SMALL, carry(1, 3, 1, 0))
+
+    def test_blame(self):
+        for call in (blame(0, 4), blame(0, 5), blame(1, 5), blame(0, 50)):
+            self.assert_refused(-6, SMALL, call)
+        self.assert_accepted(SMALL, blame(1, 4))
+        # A sense of the book now that came behind the edition isn't in it.
+        self.assert_refused(-6, SMALL + [sense(1, 0)], blame(1, 5))
+
+    def test_line(self):
+        self.assert_refused(-5, [], line(1))
+        self.assert_refused(-5, [freeze()], line(1))
+        self.assert_refused(-5, SMALL, line(9))
+        self.assert_refused(-5, SMALL, line(200))
+        self.assert_accepted(SMALL, line(8))
+
     def test_freeze(self):
         self.assert_refused(-4, SMALL + [freeze()] * 9, freeze())
 
@@ -129,6 +165,17 @@ class OrderTest(Case):
         self.assert_refused(-8, FULL, erratum(2, 1))
         self.assert_refused(-6, FULL, erratum(1, 3))
 
+    def test_patch(self):
+        self.assert_refused(-8, SMALL, patch(2, [0]))
+        self.assert_refused(-8, SMALL, patch(2, [1, 7, 0, 0, 0, 9]))
+
+    def test_carry(self):
+        self.assert_refused(-8, SMALL, carry(2, 9, 9, 0))
+        self.assert_refused(-8, SMALL, carry(0, 9, 9, 2))
+
+    def test_blame(self):
+        self.assert_refused(-8, SMALL, blame(2, 5))
+
 
 class LimitTest(Case):
     def test_20_entries_are_the_most(self):
@@ -174,7 +221,9 @@ class LimitTest(Case):
         self.assertEqual(told[-2:], [[0, 200], [-4]])
 
     def test_what_is_no_act_is_no_line(self):
-        told = run(entry(0), freeze(), print_book(0), corrected(1), changes(0, 1), entry(0))
+        told = run(entry(0), freeze(), print_book(0), corrected(1), changes(0, 1), patch(0, [3, 7, 0, 0, 1, 97]),
+                   number(0, 1), name_at(0, 1, 1), carry(0, 1, 1, 1), pointers(0), dead(0), blame(0, 1), check([]),
+                   errata(1), line(1), size(0), state(), entry(0))
         self.assertEqual(told[-1], [0, 2, 2])
         self.assertEqual(last(*FULL_LOG, freeze()), [0, 1, 200])
 
